@@ -117,12 +117,15 @@ func (s *Server) turn(v *viewer, hint []index.Entry) {
 	asked := v.done != v.answered
 	v.answered = v.done
 	v.deck.Tick(s.now, s.lo, s.hi)
-	before := v.sender.Last().Num
+	before := uint64(0)
+	if asked {
+		before = v.sender.Last().Num
+	}
 	if pos, x, ok := s.stands(v, hint); ok {
 		must(v.sender.Show(v.deck.Mode(), pos, x))
 	}
 	// A command that changes nothing needs a state that brings its answer.
-	if asked && before != 0 && v.sender.Last().Num == before {
+	if before != 0 && v.sender.Last().Num == before {
 		must(v.sender.Again())
 	}
 	s.send(v)
