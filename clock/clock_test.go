@@ -63,6 +63,13 @@ func TestGo(t *testing.T) {
 			t.Errorf("P22.1: Go(%d): %d, rest %d; want %d, %d", x.now, got, c.Rest(), x.pos, x.rest)
 		}
 	}
+	for _, now := range []uint64{1 << 60, api.MaxTick, math.MaxUint64} {
+		c = made(t, 0, 5, of(1025, 2))
+		c.Go(1)
+		if got := c.Go(now); got != api.MaxTick || c.Rest() != 0 {
+			t.Errorf("P22.1: Go far beyond the end: %d, rest %d", got, c.Rest())
+		}
+	}
 	c = made(t, 0, api.MaxTick-1, of(3, 2))
 	if got := c.Go(1); got != api.MaxTick || c.Rest() != 0 {
 		t.Errorf("P22.1: Go to the end: %d, rest %d", got, c.Rest())
@@ -98,7 +105,7 @@ func TestTurn(t *testing.T) {
 	}
 	for _, x := range []struct {
 		now, num, den, pos, rest uint64
-	}{{1, 1, 8, 0, 6}, {1, 1, 2, 0, 1}, {2, 5, 1, 1, 0}, {3, 1, 1 << 20, 6, 0}, {2 + 1<<19, 3, 4, 6, 1}, {0, 1, 1 << 20, 6, 1 << 18}, {4 + 1<<19, 0, 1, 6, 0}, {1 << 40, 7, 8, 6, 0}} {
+	}{{1, 1, 8, 0, 6}, {1, 1, 2, 0, 1}, {2, 5, 1, 1, 0}, {3, 1, 1 << 20, 6, 0}, {2 + 1<<19, 3, 4, 6, 1}, {0, 1, 1 << 20, 6, 1 << 18}, {4 + 1<<19, 0, 1, 6, 0}, {1 << 40, 7, 8, 6, 0}, {api.MaxTick, 1, 1, 6 + (api.MaxTick-1<<40)/8*7, 0}} {
 		if e := c.Turn(x.now, of(x.num, x.den)); e != api.OK || c.Speed() != of(x.num, x.den) || c.At(0) != x.pos || c.Rest() != x.rest {
 			t.Errorf("P22.2: %v: %d, at %d, rest %d", x, e, c.At(0), c.Rest())
 		}

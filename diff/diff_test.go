@@ -4,6 +4,7 @@ import (
 	"bytes"
 	"math/rand"
 	"slices"
+	"strings"
 	"testing"
 
 	"tickertape/api"
@@ -107,6 +108,13 @@ func TestApplyRefuses(t *testing.T) {
 		if n != len(head) && n != len(head)+2+6 {
 			bad = append(bad, two[:n])
 		}
+	}
+	title := func(n int) []byte {
+		return join(nums(0, 0, 0, 0, uint64(4*n)), []byte(strings.Repeat("\U0001F600", n)))
+	}
+	bad = append(bad, title(api.MaxTitle+1), title(500))
+	if b, e := diff.Apply(a, title(api.MaxTitle)); len(b.Title) != 4*api.MaxTitle || e != api.OK {
+		t.Errorf("P14.2: the longest title: %d", e)
 	}
 	for i, d := range bad {
 		if b, e := diff.Apply(a, d); e != api.ErrForm || !screen.Same(b, screen.Screen{}) {

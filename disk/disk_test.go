@@ -75,7 +75,7 @@ func TestOperations(t *testing.T) {
 		{d.Create("b"), api.OK}, {d.Create("b"), api.ErrExists}, {d.Create("B"), api.ErrRange}, {d.Create("a"), api.OK},
 		{d.Append("a", []byte("1234")), api.OK}, {d.Append("a", []byte("56")), api.OK}, {d.Append("b", []byte("7890")), api.OK}, {d.Append("b", nil), api.OK},
 		{d.Append("b", []byte("x")), api.ErrFull}, {d.Append("c", []byte("x")), api.ErrNone}, {d.Append("", nil), api.ErrRange},
-		{d.Truncate("a", 7), api.ErrRange}, {d.Truncate("a", -1), api.ErrRange}, {d.Truncate("a", math.MinInt), api.ErrRange}, {d.Truncate("c", -1), api.ErrNone}, {d.Truncate("C", 0), api.ErrRange}, {d.Truncate("a", 5), api.OK},
+		{d.Truncate("a", 7), api.ErrRange}, {d.Truncate("a", -1), api.ErrRange}, {d.Truncate("a", math.MinInt), api.ErrRange}, {d.Truncate("c", -1), api.ErrNone}, {d.Truncate("C", 0), api.ErrRange}, {d.Truncate("a", 6), api.OK}, {d.Truncate("a", 5), api.OK}, {d.Truncate("b", 0), api.OK}, {d.Append("b", []byte("7890")), api.OK},
 		{d.Sync("a"), api.OK}, {d.Sync("c"), api.ErrNone}, {d.Sync("a b"), api.ErrRange},
 		{d.Rename("c", "d"), api.ErrNone}, {d.Rename("c", "D"), api.ErrRange}, {d.Rename("A", "d"), api.ErrRange}, {d.Rename("a", "a"), api.OK},
 		{d.Delete("c"), api.ErrNone}, {d.Delete("C"), api.ErrRange},
@@ -84,7 +84,7 @@ func TestOperations(t *testing.T) {
 			t.Errorf("P5.2: case %d: %d, want %d", i, c.got, c.want)
 		}
 	}
-	if d.Ops() != 26 || d.Used() != 9 || peek(d, "a") != "12345" || peek(d, "b") != "7890" || peek(d, "c") != "none" {
+	if d.Ops() != 29 || d.Used() != 9 || peek(d, "a") != "12345" || peek(d, "b") != "7890" || peek(d, "c") != "none" {
 		t.Errorf("P5.2: %d operations, %d bytes, %q, %q", d.Ops(), d.Used(), peek(d, "a"), peek(d, "b"))
 	}
 	if b, e := d.Read("a"); string(b) != "12345" || e != api.OK {
@@ -202,7 +202,7 @@ func TestDown(t *testing.T) {
 func TestArm(t *testing.T) {
 	d := made(t, 100)
 	has(t, d, "a", "12", "345")
-	if d.Arm(0) || d.Arm(-1) || d.Arm(math.MinInt) || !d.Arm(1) || !d.Arm(3, disk.Outcome{Keep: 1, Junk: []byte("x")}) || d.Arm(0) {
+	if d.Arm(0) || d.Arm(-1) || d.Arm(math.MinInt) || !d.Arm(1, disk.Outcome{Keep: 2}) || !d.Arm(3, disk.Outcome{Keep: 1, Junk: []byte("x")}) || d.Arm(0) {
 		t.Error("P5.3: Arm")
 	}
 	ops := d.Ops()

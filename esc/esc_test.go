@@ -72,7 +72,7 @@ func TestGround(t *testing.T) {
 func TestEscape(t *testing.T) {
 	check(t, []given{
 		{"\x1BM", list(plain('M')), esc.Ground}, {"\x1B0", list(plain('0')), esc.Ground}, {"\x1B~", list(plain('~')), esc.Ground}, {"\x1B\\a", append(list(plain('\\')), printed("a")...), esc.Ground},
-		{"\x1B\x07", list(exec(7)), esc.Escape}, {"\x1B\x07c", list(exec(7), plain('c')), esc.Ground}, {"\x1B\x7F", nil, esc.Escape}, {"\x1B\x7Fc", list(plain('c')), esc.Ground},
+		{"\x1B\x1F", list(exec(0x1F)), esc.Escape}, {"\x1B\x07", list(exec(7)), esc.Escape}, {"\x1B\x07c", list(exec(7), plain('c')), esc.Ground}, {"\x1B\x7F", nil, esc.Escape}, {"\x1B\x7Fc", list(plain('c')), esc.Ground},
 		{"\x1B\u0080", nil, esc.Ground}, {"\x1B\u4E00a", printed("a"), esc.Ground}, {"\x1B\x1B", nil, esc.Escape}, {"\x1B\x18", nil, esc.Ground}, {"\x1B\x1A", nil, esc.Ground},
 		{"\x1B[", nil, esc.Control}, {"\x1B]", nil, esc.Command}, {"\x1BP", nil, esc.Text}, {"\x1BX", nil, esc.Text}, {"\x1B^", nil, esc.Text}, {"\x1B_", nil, esc.Text}, {"\x1B#", nil, esc.Between}, {"\x1B ", nil, esc.Between}, {"\x1B/", nil, esc.Between},
 	})
@@ -83,7 +83,7 @@ func TestBetween(t *testing.T) {
 	check(t, []given{
 		{"\x1B#8", list(inter('#', '8')), esc.Ground}, {"\x1B ~", list(inter(' ', '~')), esc.Ground}, {"\x1B(0a", append(list(inter('(', '0')), printed("a")...), esc.Ground},
 		{"\x1B(\x078", list(exec(7), inter('(', '8')), esc.Ground}, {"\x1B(\x7F8", list(inter('(', '8')), esc.Ground}, {"\x1B()8a", printed("a"), esc.Ground}, {"\x1B((", nil, esc.Between}, {"\x1B()8\x1B(8", list(inter('(', '8')), esc.Ground},
-		{"\x1B(\u0080a", printed("a"), esc.Ground}, {"\x1B(\x18a", printed("a"), esc.Ground}, {"\x1B(\x1B", nil, esc.Escape}, {"\x1B([", list(inter('(', '[')), esc.Ground},
+		{"\x1B(\u0080a", printed("a"), esc.Ground}, {"\x1B(\x1F8", list(exec(0x1F), inter('(', '8')), esc.Ground}, {"\x1B( 8", nil, esc.Ground}, {"\x1B(/8", nil, esc.Ground}, {"\x1B(0", list(inter('(', '0')), esc.Ground}, {"\x1B(\x18a", printed("a"), esc.Ground}, {"\x1B(\x1B", nil, esc.Escape}, {"\x1B([", list(inter('(', '[')), esc.Ground},
 	})
 }
 
@@ -96,7 +96,7 @@ func TestControl(t *testing.T) {
 		{"\x1B[?25h", list(private('?', csi('h', 25))), esc.Ground}, {"\x1B[>c", list(private('>', csi('c'))), esc.Ground}, {"\x1B[<1m", list(private('<', csi('m', 1))), esc.Ground}, {"\x1B[=1m", list(private('=', csi('m', 1))), esc.Ground},
 		{"\x1B[1?h", nil, esc.Ground}, {"\x1B[??h", nil, esc.Ground}, {"\x1B[;?h", nil, esc.Ground}, {"\x1B[ ?h", nil, esc.Ground}, {"\x1B[?>h", nil, esc.Ground},
 		{"\x1B[ q", list(inter(' ', csi('q'))), esc.Ground}, {"\x1B[1!p", list(inter('!', csi('p', 1))), esc.Ground}, {"\x1B[?1$p", list(private('?', inter('$', csi('p', 1)))), esc.Ground}, {"\x1B[!!p", nil, esc.Ground}, {"\x1B[!1p", nil, esc.Ground}, {"\x1B[!;p", nil, esc.Ground}, {"\x1B[!:p", nil, esc.Ground},
-		{"\x1B[1\x0D2m", list(exec(13), csi('m', 12)), esc.Ground}, {"\x1B[1\x7F2m", list(csi('m', 12)), esc.Ground}, {"\x1B[\x07?1h", list(exec(7), private('?', csi('h', 1))), esc.Ground}, {"\x1B[1\u0080m", printed("m"), esc.Ground}, {"\x1B[1\x18m", printed("m"), esc.Ground}, {"\x1B[1\x1B[2m", list(csi('m', 2)), esc.Ground},
+		{"\x1B[1\x0D2m", list(exec(13), csi('m', 12)), esc.Ground}, {"\x1B[1\x1Fm", list(exec(0x1F), csi('m', 1)), esc.Ground}, {"\x1B[/m", list(inter('/', csi('m'))), esc.Ground}, {"\x1B[!@", list(inter('!', csi('@'))), esc.Ground}, {"\x1B[1\x7F2m", list(csi('m', 12)), esc.Ground}, {"\x1B[\x07?1h", list(exec(7), private('?', csi('h', 1))), esc.Ground}, {"\x1B[1\u0080m", printed("m"), esc.Ground}, {"\x1B[1\x18m", printed("m"), esc.Ground}, {"\x1B[1\x1B[2m", list(csi('m', 2)), esc.Ground},
 		{"\x1B[1?", nil, esc.Control}, {"\x1B[1?h\x1B[1h", list(csi('h', 1)), esc.Ground}, {"\x1B[1;2H\x1B[H\x1B[?h\x1B[h", list(csi('H', 1, 2), csi('H'), private('?', csi('h')), csi('h')), esc.Ground},
 	})
 }
@@ -120,7 +120,7 @@ func TestCommand(t *testing.T) {
 	long := strings.Repeat("\u4E00", api.MaxOsc)
 	check(t, []given{
 		{"\x1B]0;hi\x07a", append(list(osc("0;hi")), printed("a")...), esc.Ground}, {"\x1B]2;x\x1B\\a", append(list(osc("2;x")), printed("a")...), esc.Ground}, {"\x1B]\x07", list(osc("")), esc.Ground}, {"\x1B]a\x01\x0D\x1F\x7Fb\x07", list(osc("ab")), esc.Ground},
-		{"\x1B]\u0080\u009F\u00E9\x07", list(osc("\u0080\u009F\u00E9")), esc.Ground}, {"\x1B]" + long + "\x07", list(osc(long)), esc.Ground}, {"\x1B]" + long + "xyz\x07", list(osc(long)), esc.Ground}, {"\x1B]" + long + "x\x1B\\", list(osc(long)), esc.Ground},
+		{"\x1B]a b\x07", list(osc("a b")), esc.Ground}, {"\x1B]\u0080\u009F\u00E9\x07", list(osc("\u0080\u009F\u00E9")), esc.Ground}, {"\x1B]" + long + "\x07", list(osc(long)), esc.Ground}, {"\x1B]" + long + "xyz\x07", list(osc(long)), esc.Ground}, {"\x1B]" + long + "x\x1B\\", list(osc(long)), esc.Ground},
 		{"\x1B]a\x18b\x07", append(printed("b"), exec(7)), esc.Ground}, {"\x1B]a\x1Ab", printed("b"), esc.Ground}, {"\x1B]a\x1B", nil, esc.Ending}, {"\x1B]a\x1Bc", list(plain('c')), esc.Ground}, {"\x1B]a\x1B[1m", list(csi('m', 1)), esc.Ground},
 		{"\x1B]a\x1B]b\x07", list(osc("b")), esc.Ground}, {"\x1B]a\x1B\x1B", nil, esc.Escape}, {"\x1B]a\x1B\x1B\\", list(plain('\\')), esc.Ground}, {"\x1B]a\x1B\x18\\", printed("\\"), esc.Ground}, {"\x1B]a\x07\x1B]\x07", list(osc("a"), osc("")), esc.Ground}, {"\x1B]a\x1BP", nil, esc.Text}, {"\x1B]a\x1B(", nil, esc.Between},
 	})

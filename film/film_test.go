@@ -120,6 +120,8 @@ func TestPush(t *testing.T) {
 	if l := records(t, f); !slices.EqualFunc(l, want, rec.Same) {
 		t.Errorf("P20.2: %v", l)
 	}
+	last := open(t, newDisk(t, 1<<20), conf)
+	push(t, last, api.MaxTick, of("abc"), 1)
 	bad := of("abc")
 	bad.Row = 1
 	for i, c := range []struct {

@@ -92,7 +92,7 @@ func TestPutRefuses(t *testing.T) {
 	g := frag.NewGather()
 	g.Put(part(5, 1, 2, "ab"))
 	for i, b := range [][]byte{
-		nil, {9}, {9, 0}, part(0, 0, 1, ""), part(api.MaxCount+1, 0, 1, ""), part(math.MaxUint64, 0, 1, ""), part(9, 0, 0, ""), part(9, 1, 1, ""), part(9, 2, 1, ""), part(9, 0, 4097, full), part(9, 4096, 4097, ""), part(9, math.MaxUint64, 1, ""), part(9, 0, math.MaxUint64, full), part(9, 0, 1, full+"x"), part(9, 1, 2, full+"x"),
+		nil, {9}, {9, 0}, part(0, 0, 1, ""), part(api.MaxCount+1, 0, 1, ""), part(math.MaxUint64, 0, 1, ""), part(9, 0, 0, ""), part(9, 1, 1, ""), part(9, 1, 1, full), part(9, 2, 2, full), part(9, 2, 1, ""), part(9, 0, 4097, full), part(9, 4096, 4097, ""), part(9, math.MaxUint64, 1, ""), part(9, 0, math.MaxUint64, full), part(9, 0, 1, full+"x"), part(9, 1, 2, full+"x"),
 		part(9, 0, 2, ""), part(9, 0, 2, full[1:]), part(9, 0, 2, full+"x"), {0x89, 0, 0, 1}, {9, 0x80, 0, 1}, {9, 0, 0x81, 0}, {9, 0, 0x81}, part(4, 0, 2, "short"), part(5, 0, 2, "short"), part(4, 1, 1, ""),
 	} {
 		if message, whole, e := g.Put(b); message != nil || whole || e != api.ErrForm || g.ID() != 5 || g.Have() != 1 {

@@ -194,7 +194,10 @@ func TestErase(t *testing.T) {
 			t.Errorf("P7.3: Erase %v: %q", c, got)
 		}
 	}
-	g := of(t, "W-aW-", "W-aW-")
+	g := of(t, "a", "b")
+	g.Erase(1, 0, 1, blue)
+	want(t, "P7.3", g, "a", "_")
+	g = of(t, "W-aW-", "W-aW-")
 	g.Erase(0, 1, 4, blue)
 	want(t, "P7.3", g, "~___~", "W-aW-")
 }

@@ -61,7 +61,7 @@ func TestEncode(t *testing.T) {
 		l    []index.Entry
 		want []byte
 	}{
-		{nil, nil}, {keys[:1], sealed(1, 0, 1, 20)}, {keys[1:3], append(sealed(3, 5, 1, 60), sealed(4, 5, 2, 20)...)}, {[]index.Entry{{Seq: math.MaxUint64, Time: 1 << 63, Num: math.MaxInt32, At: 0}}, sealed(math.MaxUint64, 1<<63, math.MaxInt32, 0)},
+		{nil, nil}, {keys[:1], sealed(1, 0, 1, 20)}, {keys[1:3], append(sealed(3, 5, 1, 60), sealed(4, 5, 2, 20)...)}, {[]index.Entry{{Seq: math.MaxUint64, Time: 1 << 63, Num: math.MaxInt32, At: 0}, {Num: 0, At: math.MaxInt32}}, append(sealed(math.MaxUint64, 1<<63, math.MaxInt32, 0), sealed(0, 0, 0, math.MaxInt32)...)},
 	} {
 		if got := index.Encode(c.l); !bytes.Equal(got, c.want) {
 			t.Errorf("P19.1: Encode(%v) is % X", c.l, got)
@@ -156,7 +156,7 @@ func TestFind(t *testing.T) {
 
 func TestSaveAndLoad(t *testing.T) {
 	d := newDisk(t, 40)
-	if l, e := index.Load(d); l != nil || e != api.OK || d.Ops() != 1 {
+	if l, e := index.Load(d); l != nil || e != api.OK || d.Ops() != 1 || index.File != "idx" {
 		t.Errorf("P19.3: Load of none: %v, %d", l, e)
 	}
 	for _, l := range [][]index.Entry{keys[:2], nil, keys} {

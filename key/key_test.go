@@ -50,7 +50,7 @@ func TestCells(t *testing.T) {
 }
 
 func TestReadCells(t *testing.T) {
-	for i, l := range [][]cell.Cell{nil, {a}, {a, a, a}, some().Cells, {left, left, right}, {right}, slices.Repeat([]cell.Cell{a}, api.MaxRows*api.MaxCols)} {
+	for i, l := range [][]cell.Cell{nil, {a}, {a, a, a}, some().Cells, {left, left, right}, {right}, {{Rune: 0x10FFFF}}, slices.Repeat([]cell.Cell{a}, api.MaxRows*api.MaxCols)} {
 		r := wire.NewReader(append(key.Cells(l), 1, 2, 3))
 		if got, ok := key.ReadCells(r, len(l)); !slices.Equal(got, l) || !ok || r.Left() != 3 || r.Err() != api.OK {
 			t.Errorf("P13.1: case %d: %v, %v, %d left", i, got, ok, r.Left())
@@ -71,9 +71,9 @@ func TestReadCellsRefuses(t *testing.T) {
 		b []byte
 		n int
 	}{
-		{nil, 1}, {one, 2}, {one, -1}, {one, math.MinInt}, {one, api.MaxRows*api.MaxCols + 1}, {one, math.MaxInt}, {one[:5], 1}, {append(slices.Clone(one), one...), 2}, {nums(0, 'a', 0, 0, 0, 0), 1}, {nums(2, 'a', 0, 0, 0, 0), 1}, {nums(1<<63, 'a', 0, 0, 0, 0), 1}, {nums(math.MaxUint64, 'a', 0, 0, 0, 0), 3},
+		{nil, 1}, {one, 2}, {one, -1}, {one, math.MinInt}, {one, api.MaxRows*api.MaxCols + 1}, {one, math.MaxInt}, {one[:5], 1}, {append(slices.Clone(one), one...), 2}, {nums(0, 'a', 0, 0, 0, 0), 1}, {nums(0, 'b', 0, 0, 0, 0, 1, 'a', 0, 0, 0, 0), 1}, {append(slices.Clone(one), nums(2, 'b', 0, 0, 0, 0)...), 2}, {nums(2, 'a', 0, 0, 0, 0), 1}, {nums(1<<63, 'a', 0, 0, 0, 0), 1}, {nums(math.MaxUint64, 'a', 0, 0, 0, 0), 3},
 		{append(slices.Clone(one), nums(0, 'b', 0, 0, 0, 0)...), 2}, {nums(1, 7, 0, 0, 0, 0), 1}, {nums(1, 0x4E00, 0, 0, 0, 0), 1}, {nums(1, 'a', 256, 0, 0, 0), 1}, {nums(1, 'a', 0, 257, 0, 0), 1}, {nums(1, 'a', 0, 0, 2*cell.True, 0), 1}, {nums(1, 'a', 0, 0, 0, 1), 1}, {nums(1, 'a', 0, 0, 0, 3), 1},
-		{nums(1, 1<<32+'a', 0, 0, 0, 0), 1}, {nums(1, 'a', 1<<63, 0, 0, 0), 1}, {nums(1, 'a', 0, math.MaxUint64, 0, 0), 1}, {nums(1, 'a', 0, 0, 0, 1<<63), 1}, {[]byte{0x81, 0, 'a', 0, 0, 0, 0}, 1},
+		{nums(1, 0x110000, 0, 0, 0, 0), 1}, {nums(1, 1<<32+'a', 0, 0, 0, 0), 1}, {nums(1, 'a', 1<<63, 0, 0, 0), 1}, {nums(1, 'a', 0, math.MaxUint64, 0, 0), 1}, {nums(1, 'a', 0, 0, 0, 1<<63), 1}, {[]byte{0x81, 0, 'a', 0, 0, 0, 0}, 1},
 	} {
 		if got, ok := key.ReadCells(wire.NewReader(c.b), c.n); got != nil || ok {
 			t.Errorf("P13.1: case %d: %v, %v", i, got, ok)
@@ -147,7 +147,7 @@ func random(r *rand.Rand) screen.Screen {
 		}
 	}
 	s.Row, s.Col, s.Hidden = r.Intn(s.Rows), r.Intn(s.Cols), r.Intn(2) == 0
-	s.Title = strings.Repeat("\u4E00", r.Intn(65))
+	s.Title = strings.Repeat("\U0001F600", r.Intn(65))
 	return s
 }
 

@@ -127,8 +127,11 @@ func TestSave(t *testing.T) {
 	}
 	d.Create(man.Fresh)
 	d.Append(man.Fresh, []byte("old"))
-	if e := man.Save(d, []int{1}); e != api.OK || !slices.Equal(files(d), []string{man.File}) {
+	if e := man.Save(d, []int{1}); e != api.OK || !slices.Equal(files(d), []string{"man"}) {
 		t.Errorf("P17.2: Save over what was fresh: %d, %v", e, files(d))
+	}
+	if l, e := man.Load(d); !slices.Equal(l, []int{1}) || e != api.OK || man.Fresh != "man.new" {
+		t.Errorf("P17.2: Save over what was fresh: %v, %d", l, e)
 	}
 	if d.Crash(); man.Save(d, []int{1}) != api.ErrDown {
 		t.Error("P17.2: Save on a disk that is down")
@@ -176,8 +179,11 @@ func TestAFallWithinSave(t *testing.T) {
 			if e != api.OK || !slices.Equal(got, before) && !slices.Equal(got, after) || op > 5 && !slices.Equal(got, after) {
 				t.Fatalf("P17.4: a fall at operation %d: %v, %d", op, got, e)
 			}
-			if e := man.Save(d, before); e != api.OK || !slices.Equal(files(d), []string{man.File}) {
+			if e := man.Save(d, []int{7}); e != api.OK || !slices.Equal(files(d), []string{man.File}) {
 				t.Fatalf("P17.2: Save behind a fall: %d, %v", e, files(d))
+			}
+			if l, e := man.Load(d); !slices.Equal(l, []int{7}) || e != api.OK {
+				t.Fatalf("P17.2: Save behind a fall: %v, %d", l, e)
 			}
 		}
 	}

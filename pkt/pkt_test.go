@@ -34,6 +34,9 @@ func TestSeal(t *testing.T) {
 			t.Errorf("P25.1: case %d: %v, %d", i, p, e)
 		}
 	}
+	if pkt.Head != 10 || pkt.Most != 1200 {
+		t.Errorf("P25.1: %d, %d", pkt.Head, pkt.Most)
+	}
 	for i, p := range []pkt.Packet{{}, {Dir: 0, Num: 1}, {Dir: 3, Num: 1}, {Dir: -1, Num: 1}, {Dir: 257, Num: 1}, {Dir: 1, Viewer: 8, Num: 1}, {Dir: 1, Viewer: -1, Num: 1}, {Dir: 1, Viewer: 256, Num: 1}, {Dir: 1}, {Dir: 1, Num: api.MaxCount + 1}, {Dir: 1, Num: math.MaxUint64}, {Dir: 1, Num: 1, Body: make([]byte, pkt.Most+1)}} {
 		if b, e := pkt.Seal(key, p); pkt.May(p) || b != nil || e != api.ErrRange {
 			t.Errorf("P25.1: bad case %d: % X, %d", i, b, e)

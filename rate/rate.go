@@ -85,9 +85,6 @@ func steps(b uint64) uint64 {
 }
 
 func leastTerms(n uint64) Speed {
-	if n == 0 {
-		return Speed{Num: 0, Den: 1}
-	}
 	shared := min(bits.TrailingZeros64(n), finestBits)
 	return Speed{Num: n >> shared, Den: finest >> shared}
 }

@@ -146,7 +146,7 @@ func TestScale(t *testing.T) {
 		{5, 1, 3, 2, 8, 0, api.OK}, {5, 0, 3, 2, 7, 1, api.OK}, {0, 0, 0, 1, 0, 0, api.OK}, {9, 0, 0, 1, 0, 0, api.OK}, {0, 1, 1, 2, 0, 1, api.OK},
 		{api.MaxTick, 0, 1, 1, api.MaxTick, 0, api.OK}, {api.MaxTick + 1, 0, 1, 1, 0, 0, api.ErrRange},
 		{1 << 63, 1, 1, 2, 1 << 62, 1, api.OK}, {1<<63 + 1, 0, 1, 2, 1 << 62, 1, api.OK}, {1<<63 + 1, 1, 1, 2, 0, 0, api.ErrRange},
-		{1 << 52, 0, 1024, 1, 1 << 62, 0, api.OK}, {1<<52 + 1, 0, 1024, 1, 0, 0, api.ErrRange}, {math.MaxUint64, 0, 1024, 1, 0, 0, api.ErrRange},
+		{1 << 52, 0, 1024, 1, 1 << 62, 0, api.OK}, {1<<52 + 1, 0, 1024, 1, 0, 0, api.ErrRange}, {math.MaxUint64, 0, 1024, 1, 0, 0, api.ErrRange}, {1 << 63, 0, 2, 1, 0, 0, api.ErrRange}, {1 << 63, 0, 5, 2, 0, 0, api.ErrRange}, {1 << 63, 0, 4, 1, 0, 0, api.ErrRange},
 		{math.MaxUint64, 1<<20 - 1, 1, 1 << 20, 1 << 44, 1<<20 - 2, api.OK}, {math.MaxUint64, 1<<20 - 1, 1<<30 - 1, 1 << 20, 0, 0, api.ErrRange},
 		{1, 2, 3, 2, 0, 0, api.ErrRange}, {1, 1, 1, 1, 0, 0, api.ErrRange}, {1, 0, 2, 2, 0, 0, api.ErrRange}, {1, 0, 1, 0, 0, 0, api.ErrRange}, {1, 0, 1025, 1, 0, 0, api.ErrRange},
 	} {

@@ -55,7 +55,7 @@ func TestMended(t *testing.T) {
 		{4, 1, []cell.Cell{left, right, left, right}, false}, {2, 2, []cell.Cell{a, left, right, a}, false}, {1, 2, []cell.Cell{left, a}, false}, {1, 2, []cell.Cell{a, right}, false}, {1, 1, []cell.Cell{left}, false}, {1, 1, []cell.Cell{right}, false},
 		{1, 3, []cell.Cell{left, left, right}, false}, {1, 3, []cell.Cell{left, right, right}, false}, {1, 2, []cell.Cell{right, left}, false}, {1, 1, []cell.Cell{{}}, false}, {1, 1, []cell.Cell{{Rune: 'a', Attr: cell.Attr{Fg: -1}}}, false},
 		{1, 2, []cell.Cell{a}, false}, {1, 1, []cell.Cell{a, a}, false}, {2, 1, []cell.Cell{a}, false}, {1, 1, nil, false}, {3, 2, []cell.Cell{a, a, a, a}, false}, {2, 3, []cell.Cell{a, a, a, a, a}, false},
-		{-1, -1, []cell.Cell{a}, false}, {1 << 32, 1 << 32, nil, false}, {math.MaxInt, math.MaxInt, []cell.Cell{a}, false}, {math.MinInt, 2, nil, false}, {1 << 62, 4, nil, false},
+		{1, 0, []cell.Cell{a}, false}, {0, 1, []cell.Cell{a}, false}, {-1, -1, []cell.Cell{a}, false}, {1 << 32, 1 << 32, nil, false}, {math.MaxInt, math.MaxInt, []cell.Cell{a}, false}, {math.MinInt, 2, nil, false}, {1 << 62, 4, nil, false},
 	} {
 		if screen.Mended(c.rows, c.cols, c.l) != c.want {
 			t.Errorf("P11.1: Mended, case %d", i)

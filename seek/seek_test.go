@@ -131,7 +131,11 @@ func TestAtThatFails(t *testing.T) {
 		t.Errorf("P21.2: of a spoilt segment: %v, %d", got, e)
 	}
 	d.Truncate("s000002", 0)
-	d.Append("s000002", b)
+	d.Append("s000002", b[:20])
+	if got, e := seek.At(f, nil, 21); !same(got, seek.Found{}) || e != api.ErrForm {
+		t.Errorf("P21.2: of a segment without a record: %v, %d", got, e)
+	}
+	d.Append("s000002", b[20:])
 	d.Crash()
 	if got, e := seek.At(f, nil, 21); !same(got, seek.Found{}) || e != api.ErrDown {
 		t.Errorf("P21.2: down: %v, %d", got, e)

@@ -28,7 +28,7 @@ func TestApply(t *testing.T) {
 		{cell.Attr{}, []int{38, 2, -1, -1, -1, 4}, cell.Attr{Flags: 8, Fg: cell.True}}, {cell.Attr{}, []int{38, 5, -1, 4}, cell.Attr{Flags: 8, Fg: 1}},
 		{full, []int{38}, full}, {full, []int{38, 5}, full}, {full, []int{48, 2, 1, 2}, full}, {full, []int{38, 1, 0}, full}, {full, []int{38, 3, 0, 0}, full}, {full, []int{48, -1, 0}, full}, {full, []int{38, 0, 0}, full}, {full, []int{38, 38, 5, 1}, full},
 		{full, []int{38, 5, 256, 22}, cell.Attr{Flags: 252, Fg: 5, Bg: rgb}}, {full, []int{38, 5, -2, 22}, cell.Attr{Flags: 252, Fg: 5, Bg: rgb}}, {full, []int{48, 2, 1, 256, 3, 22}, cell.Attr{Flags: 252, Fg: 5, Bg: rgb}}, {full, []int{48, 2, 1, 2, math.MinInt, 0}, cell.Attr{}}, {full, []int{48, 2, math.MaxInt, 2, 1, 39}, cell.Attr{Flags: 255, Bg: rgb}},
-		{full, []int{6, 10, 21, 26, 29 + 9*3, 58, 99, 108, 89, 50, -2, math.MaxInt, math.MinInt}, full},
+		{full, []int{6, 10, 98, 21, 26, 29 + 9*3, 58, 99, 108, 89, 50, -2, math.MaxInt, math.MinInt}, full},
 	} {
 		if got := sgr.Apply(c.from, c.params...); got != c.want {
 			t.Errorf("P9.1: Apply(%v, %v) is %v, want %v", c.from, c.params, got, c.want)

@@ -26,8 +26,10 @@ func (t *Term) csi(e esc.Event) {
 	case e.Inter != 0:
 	case e.Private == '?':
 		t.turn(e)
-	case e.Private != 0:
-	case !t.moves(e) && !t.edits(e):
+	case e.Private == 0:
+		// Each knows finals of its own.
+		t.moves(e)
+		t.edits(e)
 		t.others(e)
 	}
 }
@@ -45,8 +47,8 @@ func count(e esc.Event, i int) int {
 	return max(param(e, i), 1)
 }
 
-// moves does what brings the cursor elsewhere; false, if e is nothing of this kind.
-func (t *Term) moves(e esc.Event) bool {
+// moves does what brings the cursor elsewhere.
+func (t *Term) moves(e esc.Event) {
 	n := count(e, 0)
 	switch e.Final {
 	case 'A':
@@ -73,14 +75,11 @@ func (t *Term) moves(e esc.Event) bool {
 		t.column(t.stops.Next(t.col, n))
 	case 'Z':
 		t.column(t.stops.Prev(t.col, n))
-	default:
-		return false
 	}
-	return true
 }
 
-// edits does what changes cells; false, if e is nothing of this kind.
-func (t *Term) edits(e esc.Event) bool {
+// edits does what changes cells.
+func (t *Term) edits(e esc.Event) {
 	n, g := count(e, 0), t.grid()
 	switch e.Final {
 	case 'J':
@@ -101,12 +100,10 @@ func (t *Term) edits(e esc.Event) bool {
 		t.scroll(n)
 	case 'T':
 		t.scroll(-n)
-	default:
-		return false
 	}
-	return true
 }
 
+// others does what changes how the terminal goes on, or is answered.
 func (t *Term) others(e esc.Event) {
 	switch e.Final {
 	case 'g':

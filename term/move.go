@@ -19,20 +19,20 @@ func (t *Term) column(col int) {
 
 // up brings the cursor up by n: not out of the region, if it is within it.
 func (t *Term) up(n int) {
-	edge := 0
+	row := t.row - n
 	if t.within() {
-		edge = t.top
+		row = max(row, t.top)
 	}
-	t.cursor = t.place(max(t.row-n, edge), t.col)
+	t.cursor = t.place(row, t.col)
 }
 
 // down is as up, the other way.
 func (t *Term) down(n int) {
-	edge := t.rows() - 1
+	row := t.row + n
 	if t.within() {
-		edge = t.bottom
+		row = min(row, t.bottom)
 	}
-	t.cursor = t.place(min(t.row+n, edge), t.col)
+	t.cursor = t.place(row, t.col)
 }
 
 func (t *Term) within() bool {

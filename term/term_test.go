@@ -74,11 +74,11 @@ func TestNew(t *testing.T) {
 func TestPrint(t *testing.T) {
 	check(t, "P12.2", []given{
 		{"", "    |    ", 0, 0}, {"ab", "ab  |    ", 0, 2}, {"abcd", "abcd|    ", 0, 3}, {"abcde", "abcd|e   ", 1, 1}, {"abcdefghi", "efgh|i   ", 1, 1}, {"A^[2;2HB", "A   | B  ", 1, 2},
-		{"a\u0300b", "ab  |    ", 0, 2}, {"abcd\u0300e", "abcd|e   ", 1, 1}, {"\u4E00b", "<>b |    ", 0, 3}, {"ab\u4E00", "ab<>|    ", 0, 3}, {"ab\u4E00c", "ab<>|c   ", 1, 1}, {"abc\u4E00", "abc |<>  ", 1, 2}, {"abcd\u4E00", "abcd|<>  ", 1, 2},
+		{"a\u0300b", "ab  |    ", 0, 2}, {"abcd\u0300e", "abcd|e   ", 1, 1}, {"abcd\u0300", "abcd|    ", 0, 3}, {"\u4E00b", "<>b |    ", 0, 3}, {"ab\u4E00", "ab<>|    ", 0, 3}, {"ab\u4E00c", "ab<>|c   ", 1, 1}, {"abc\u4E00", "abc |<>  ", 1, 2}, {"abcd\u4E00", "abcd|<>  ", 1, 2},
 		{"\u4E00^[1;2HA", " A  |    ", 0, 2}, {"\xE2\x82A", "\uFFFDA  |    ", 0, 2},
 		{"^[?7labcde", "abce|    ", 0, 3}, {"^[?7labc\u4E00", "ab<>|    ", 0, 3}, {"^[?7labcd\u4E00", "ab<>|    ", 0, 3}, {"^[?7labc\u4E00x", "ab x|    ", 0, 3}, {"abcd^[?7l^[?7he", "abce|    ", 0, 3},
 		{"bcd^[1;1H^[4ha", "abcd|    ", 0, 1}, {"abcd^[1;2H^[4h\u4E00", "a<>b|    ", 0, 3}, {"abcd^[1;2H^[4hx^[4ly", "axyc|    ", 0, 3}, {"^[4habcde", "abcd|e   ", 1, 1},
-		{"\u4E00", " | ", 0, 0}, {"a\u4E00", "a| ", 1, 0}, {"ab", "a|b", 1, 0}, {"abc", "b|c", 1, 0}, {"^[?7lab\u4E00", " | ", 0, 0}, {"\u4E00\u4E00a", " |a", 1, 0},
+		{"\u4E00", " | ", 0, 0}, {"a\u4E00", "a| ", 1, 0}, {"ab", "a|b", 1, 0}, {"abc", "b|c", 1, 0}, {"^[?7lab\u4E00", " | ", 0, 0}, {"a\u4E00", "a |<>", 1, 1}, {"\u4E00\u4E00a", " |a", 1, 0},
 	})
 }
 
@@ -123,7 +123,8 @@ func TestEsc(t *testing.T) {
 	check(t, "P12.4", []given{
 		{"ab^Dc", "ab  |  c |    ", 1, 3}, {"a\n\n^Db", "    |    | b  ", 2, 2}, {"ab^Ec", "ab  |c   |    ", 1, 1}, {"^Ma", "a   |    |    ", 0, 1}, {"ab^Mc", "  c |ab  |    ", 0, 3}, {"ab\n^Mc", "abc |    |    ", 0, 3},
 		{"^[2;3r^[3;1Hx^[1;1Ha^Mb", "ab  |    |x   ", 0, 2}, {"^[2;3r^[2;1Hx^My", "    | y  |x   ", 1, 2}, {"^[1;2rx^[2;1Hy^Dz", "y   | z  |    ", 1, 2}, {"^[1;2r^[3;1Hx^Dy", "    |    |xy  ", 2, 2},
-		{"ab^7^[3;3Hc^8d", "abd |    |  c ", 0, 3}, {"ab^8c", "cb  |    |    ", 0, 1}, {"ab^cc", "c   |    |    ", 0, 1}, {"^#8", "EEEE|EEEE|EEEE", 0, 0}, {"ab^[2;3r^[3;3H^#8c", "cEEE|EEEE|EEEE", 0, 1}, {"a^#7^#9^(8^Zb", "ab  |    |    ", 0, 2},
+		{"ab^7^[3;3Hc^8d", "abd |    |  c ", 0, 3}, {"ab^8c", "cb  |    |    ", 0, 1}, {"ab^cc", "c   |    |    ", 0, 1}, {"^#8", "EEEE|EEEE|EEEE", 0, 0}, {"ab^[2;3r^[3;3H^#8c", "cEEE|EEEE|EEEE", 0, 1}, {"a^#7^#9^(8^Zb", "ab  |    |    ", 0, 2}, {"^[3;1H^Ma", "    |a   |    ", 1, 1}, {"^[1;2r^#8^[3;1H\n", "EEEE|EEEE|    ", 2, 0}, {"^[2;3r^#8^M", "    |EEEE|EEEE", 0, 0},
+		{"ab^[s^[3;3Hc^[ud", "abd |    |  c ", 0, 3}, {"abcd^[s^[H^[ue", "abcd|e   |    ", 1, 1}, {"ab^[s^[H^8c", "abc |    |    ", 0, 3}, {"ab^[?s^[H^[?uc^[u", "cb  |    |    ", 0, 0},
 	})
 	check(t, "P12.4", []given{
 		{"^[3g^[1;3H^H\r\ta", "  a    ", 0, 3}, {"^[1;3H^H\r\ta\tb^c\tc", "      c", 0, 6}, {"^[1m^[2;2r^[?6h^[4h^[20h^]0;t\x07^[?25l^7^cab\ncd", "ab  |  cd", 1, 3},
@@ -173,7 +174,7 @@ func TestErases(t *testing.T) {
 	full := "abcd|efgh|ijkl"
 	fill := "abcdefghijkl"
 	check(t, "P12.5", []given{
-		{fill + "^[2;2H", full, 1, 1}, {fill + "^[2;2H^[J", "abcd|e   |    ", 1, 1}, {fill + "^[2;2H^[1J", "    |  gh|ijkl", 1, 1}, {fill + "^[2;2H^[2J", "    |    |    ", 1, 1}, {fill + "^[2;2H^[3J", full, 1, 1}, {fill + "^[2;2H^[K", "abcd|e   |ijkl", 1, 1}, {fill + "^[2;2H^[1K", "abcd|  gh|ijkl", 1, 1}, {fill + "^[2;2H^[2K", "abcd|    |ijkl", 1, 1}, {fill + "^[2;2H^[3K", full, 1, 1}, {fill + "^[2;2H^[?K", full, 1, 1},
+		{fill + "^[2;2H", full, 1, 1}, {fill + "^[2;2H^[J", "abcd|e   |    ", 1, 1}, {fill + "^[2;2H^[1J", "    |  gh|ijkl", 1, 1}, {fill + "^[2;2H^[2J", "    |    |    ", 1, 1}, {fill + "^[2;2H^[3J", full, 1, 1}, {fill + "^[2;2H^[K", "abcd|e   |ijkl", 1, 1}, {fill + "^[2;2H^[1K", "abcd|  gh|ijkl", 1, 1}, {fill + "^[2;2H^[2K", "abcd|    |ijkl", 1, 1}, {fill + "^[2;2H^[3K", full, 1, 1}, {fill + "^[2;2H^[?K", full, 1, 1}, {fill + "^[2;2H^[;J", "abcd|e   |    ", 1, 1}, {fill + "^[2;2H^[;2K", "abcd|e   |ijkl", 1, 1},
 		{fill + "^[2;2H^[L", "abcd|    |efgh", 1, 0}, {fill + "^[1;2H^[2L", "    |    |abcd", 0, 0}, {fill + "^[2;2H^[M", "abcd|ijkl|    ", 1, 0}, {fill + "^[1;2H^[99M", "    |    |    ", 0, 0}, {fill + "^[1;2r^[1;2H^[L", "    |abcd|ijkl", 0, 0}, {fill + "^[1;2r^[1;2H^[M", "efgh|    |ijkl", 0, 0}, {fill + "^[1;2r^[3;2H^[L", full, 2, 1}, {fill + "^[2;3r^[1;2H^[M", full, 0, 1},
 		{fill + "^[2;2H^[@", "abcd|e fg|ijkl", 1, 1}, {fill + "^[2;2H^[9@", "abcd|e   |ijkl", 1, 1}, {fill + "^[2;2H^[2P", "abcd|eh  |ijkl", 1, 1}, {fill + "^[2;2H^[2X", "abcd|e  h|ijkl", 1, 1}, {fill + "^[2;2H^[X", "abcd|e gh|ijkl", 1, 1}, {fill + "^[2;2H^[99X", "abcd|e   |ijkl", 1, 1},
 		{fill + "^[S", "efgh|ijkl|    ", 2, 3}, {fill + "^[2T", "    |    |abcd", 2, 3}, {fill + "^[1;2r^[S", "efgh|    |ijkl", 0, 0}, {fill + "^[2;3r^[T", "abcd|    |efgh", 0, 0},
@@ -201,7 +202,7 @@ func TestRegion(t *testing.T) {
 
 func TestReply(t *testing.T) {
 	for in, want := range map[string]string{
-		"^[5n": "\x1b[0n", "^[6n": "\x1b[1;1R", "^[2;3H^[6n": "\x1b[2;3R", "^[2;3r^[?6h^[2;2H^[6n": "\x1b[2;2R", "^[c": "\x1b[?62c", "^[0c": "\x1b[?62c", "^[1c": "", "^[n^[7n^[?6n^[>c": "", "^[5n^[c^[6n": "\x1b[0n\x1b[?62c\x1b[1;1R", "abcd^[6n": "\x1b[1;4R",
+		"^[5n": "\x1b[0n", "^[6n": "\x1b[1;1R", "^[2;3H^[6n": "\x1b[2;3R", "^[2;3r^[?6h^[2;2H^[6n": "\x1b[2;2R", "^[c": "\x1b[?62c", "^[0c": "\x1b[?62c", "^[;1c": "\x1b[?62c", "^[1c": "", "^[n^[7n^[?6n^[>c": "", "^[5n^[c^[6n": "\x1b[0n\x1b[?62c\x1b[1;1R", "abcd^[6n": "\x1b[1;4R",
 		"^[?6h^7^[?6l^[3;4r^8^[6n": "\x1b[-1;1R",
 	} {
 		x := made(t, 4, 4)
@@ -225,7 +226,7 @@ func TestModes(t *testing.T) {
 	for _, c := range []struct {
 		in     string
 		hidden bool
-	}{{"^[?25l", true}, {"^[25h", true}, {"^[?25h", false}, {"^[?25l^c", false}, {"^[?6;25l", true}} {
+	}{{"^[?25l", true}, {"^[25h", true}, {"^[?25x", true}, {"^[?25h", false}, {"^[?25m", false}, {"^[?25n", false}, {"^[?25l^c", false}, {"^[?6;25l", true}} {
 		if x.Write(escaped(c.in)); x.Screen().Hidden != c.hidden {
 			t.Errorf("P12.6: %q: hidden %v", c.in, x.Screen().Hidden)
 		}
@@ -247,7 +248,7 @@ func TestBlankOtherHasNoLooks(t *testing.T) {
 func TestTitle(t *testing.T) {
 	long := strings.Repeat("\u4E00", 70)
 	for in, want := range map[string]string{
-		"^]0;hi\x07": "hi", "^]2;a;b^\\": "a;b", "^]1;hi\x07": "", "^]0hi\x07": "", "^]02;hi\x07": "", "^]0;\x07": "", "^]0;a\u0085\u009F\u00A0b\x07": "a\u00A0b", "^]0;a\xFFb\x07": "a\uFFFDb", "^]2;" + long + "\x07": long[:3*api.MaxTitle], "^]0;a\x07^]2;b\x07": "b", "^]0;a\x07^]2;\x07": "", "^]0;a\x07^]4;b\x07": "a", "^]0;a": "",
+		"^]0;hi\x07": "hi", "^]0; ~ \x07": " ~ ", "^]2;a;b^\\": "a;b", "^]1;hi\x07": "", "^]0hi\x07": "", "^]02;hi\x07": "", "^]0;\x07": "", "^]0;a\u0085\u009F\u00A0b\x07": "a\u00A0b", "^]0;a\xFFb\x07": "a\uFFFDb", "^]2;" + long + "\x07": long[:3*api.MaxTitle], "^]0;a\x07^]2;b\x07": "b", "^]0;a\x07^]2;\x07": "", "^]0;a\x07^]4;b\x07": "a", "^]0;a": "",
 	} {
 		x := made(t, 1, 2)
 		x.Write(escaped(in))

@@ -64,6 +64,19 @@ func TestWrite(t *testing.T) {
 	}
 }
 
+func TestEachTwoBytes(t *testing.T) {
+	for first := range 256 {
+		for second := range 256 {
+			for _, tail := range []string{"", "\x80", "\xBF\x80", "\x80\x7F", "\xC0\x80", "\x7F\x80\x80", "\xBF\xC0"} {
+				b := append([]byte{byte(first), byte(second)}, tail...)
+				if got := whole(b); !slices.Equal(got, signs(b)) {
+					t.Fatalf("P3.1: % X: %X, want %X", b, got, signs(b))
+				}
+			}
+		}
+	}
+}
+
 func TestPiecesDoNotCount(t *testing.T) {
 	r := rand.New(rand.NewSource(1))
 	leads := []byte{0x41, 0x80, 0x8F, 0x90, 0x9F, 0xA0, 0xBF, 0xC2, 0xE0, 0xE2, 0xED, 0xEF, 0xF0, 0xF1, 0xF4, 0xF5}

@@ -291,6 +291,35 @@ func TestNowIsTheNewServersIfGreater(t *testing.T) {
 	}
 }
 
+func TestTheEndOfTime(t *testing.T) {
+	w := made(t, conf, 1)
+	ok(t, w, output("a"), pass(2))
+	s := w.Server().Screen()
+	s.Title = "last"
+	if _, e := w.Server().Film().Push(api.MaxTick-1, s); e != api.OK {
+		t.Fatal("P20.2:", e)
+	}
+	ok(t, w, world.Event{Kind: world.SyncNow}, world.Event{Kind: world.Fall}, world.Event{Kind: world.Boot})
+	told(t, w, pass(5), api.ErrRange, 1)
+	told(t, w, pass(5), api.ErrRange, 0)
+	if w.Now() != api.MaxTick || !w.Up() {
+		t.Errorf("P31.2: now %d, up %v", w.Now(), w.Up())
+	}
+}
+
+func TestAViewerThatIsTheServersAlone(t *testing.T) {
+	w := made(t, conf, 1)
+	num, _ := w.Server().Join([]byte("other"))
+	b, _ := pkt.Seal([]byte("other"), pkt.Packet{Dir: 2, Viewer: num, Num: 1, Body: []byte{0, 0}})
+	if e := w.Server().Take(num, 5, b); e != api.OK {
+		t.Fatal("P29.3:", e)
+	}
+	ok(t, w, pass(1))
+	if w.Do(deliver(1)); w.Flying(false) != 0 {
+		t.Errorf("P31.3: %d down", w.Flying(false))
+	}
+}
+
 func TestTheNet(t *testing.T) {
 	w := made(t, conf, 3)
 	for _, kind := range []int{world.Deliver, world.Drop, world.Double} {
