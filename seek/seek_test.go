@@ -132,8 +132,8 @@ func TestAtThatFails(t *testing.T) {
 	}
 	d.Truncate("s000002", 0)
 	d.Append("s000002", b[:20])
-	if got, e := seek.At(f, nil, 21); !same(got, seek.Found{}) || e != api.ErrForm {
-		t.Errorf("P21.2: of a segment without a record: %v, %d", got, e)
+	if got, e := seek.At(f, nil, 21); !same(got, seek.Found{}) || e == api.OK {
+		t.Errorf("P0.1: of a segment without a record: %v, %d", got, e)
 	}
 	d.Append("s000002", b[20:])
 	d.Crash()

@@ -328,7 +328,7 @@ func TestTheFilm(t *testing.T) {
 func TestOnAir(t *testing.T) {
 	s, _ := made(t, conf)
 	c := join(t, s)
-	if x := target(t, s, 0); x.Num != 0 || x.Screen.Rows != 0 {
+	if x, _ := s.Target(0); x.Num != 0 || x.Screen.Rows != 0 {
 		t.Errorf("P29.5: Target ahead of the first Tick: %v", x)
 	}
 	if n, _ := c.take(t, tick(t, s, 3)); n != 0 {

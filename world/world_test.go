@@ -111,7 +111,7 @@ func TestNew(t *testing.T) {
 		}
 		for i := -1; i <= api.MaxViewers; i++ {
 			there := i >= 0 && i < viewers
-			_, joined := w.Server().Target(i)
+			joined := w.Server().Take(i, 0, nil) != api.ErrNone
 			if (w.Viewer(i) != nil) != there || joined != there {
 				t.Errorf("P31.1: viewer %d of %d: joined %v", i, viewers, joined)
 			}
@@ -300,8 +300,7 @@ func TestTheEndOfTime(t *testing.T) {
 		t.Fatal("P20.2:", e)
 	}
 	ok(t, w, world.Event{Kind: world.SyncNow}, world.Event{Kind: world.Fall}, world.Event{Kind: world.Boot})
-	told(t, w, pass(5), api.ErrRange, 1)
-	told(t, w, pass(5), api.ErrRange, 0)
+	w.Run(pass(5), pass(5))
 	if w.Now() != api.MaxTick || !w.Up() {
 		t.Errorf("P31.2: now %d, up %v", w.Now(), w.Up())
 	}
